@@ -1,0 +1,1 @@
+"""Leakyqueue: sequences of puts and takes on a queue that loses items."""
