@@ -17,21 +17,18 @@ def require_program(value):
         raise InvalidProgram(value)
 
 
-def takes(program):
-    """Return the word of the taken items, in order."""
-    require_program(program)
+def take_items(program):
+    """Return the word of the taken items of a program of any length."""
     return "".join([step.lower() for step in program if step.isupper()])
 
 
-def puts(program):
-    """Return the word of the put items, in order."""
-    require_program(program)
+def put_items(program):
+    """Return the word of the put items of a program of any length."""
     return "".join([step for step in program if step.islower()])
 
 
-def put_counts(program):
-    """Return a list with the number of puts before each take."""
-    require_program(program)
+def counts_before_takes(program):
+    """Return a list with the number of puts before each take of a program of any length."""
     counts = []
     done = 0
     for step in program:
@@ -40,6 +37,24 @@ def put_counts(program):
         else:
             counts.append(done)
     return counts
+
+
+def takes(program):
+    """Return the word of the taken items, in order."""
+    require_program(program)
+    return take_items(program)
+
+
+def puts(program):
+    """Return the word of the put items, in order."""
+    require_program(program)
+    return put_items(program)
+
+
+def put_counts(program):
+    """Return a list with the number of puts before each take."""
+    require_program(program)
+    return counts_before_takes(program)
 
 
 def steps(program):

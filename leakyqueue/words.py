@@ -36,9 +36,27 @@ def earliest_positions(part, word):
     return positions
 
 
+def end_of(positions):
+    """Return the place just behind ascending positions."""
+    return positions[-1] + 1 if positions else 0
+
+
+def embeds(part, word):
+    """Return whether part is a subsequence of word, where both may have any length."""
+    return len(earliest_positions(part, word)) == len(part)
+
+
+def without(word, positions):
+    """Return the word without the items at these positions."""
+    lost = set(positions)
+    return "".join([item for at, item in enumerate(word) if at not in lost])
+
+
 def is_subsequence(part, word):
     """Return whether part is a subsequence of word."""
-    return prefix_length(part, word) == len(part)
+    require_word(part)
+    require_word(word)
+    return embeds(part, word)
 
 
 def embedding(part, word):

@@ -4,9 +4,13 @@ import copy
 import itertools
 import unittest
 
+from leakyqueue.effects import Effect
+from leakyqueue.queues import LeakyQueue, Queue
+
 ITEM_LETTERS = ["a", "b", "c", "d", "e", "f", "g", "h"]
 TAKE_LETTERS = ["A", "B", "C", "D", "E", "F", "G", "H"]
 LETTERS_BESIDE = ["`", "i", "z", "@", "I", "Z"]
+ALL_STEPS = "".join(ITEM_LETTERS + TAKE_LETTERS)
 OTHER_CHARACTERS = [" ", "\n", "\t", "0", "1", "-", "_", "|", "{", "~", "!", "."]
 
 
@@ -16,6 +20,7 @@ def values_of_other_kinds():
         None, True, False, 0, 1, -1, 97, 10 ** 199,
         [], ["a"], ["a", "B"], ["ab", ["c"]], (), ("a",), ("a", "b"),
         {}, {"a": "b"}, {"a": ["b"]}, {"a"}, b"", b"a", b"ab",
+        Queue("a"), LeakyQueue("a"), Effect("a", "a", 0),
     ]
 
 
@@ -31,6 +36,35 @@ def strings_with_others(text, characters):
     for character in characters:
         strings += with_character(text, character)
     return strings
+
+
+def wrong_words():
+    """Values that are no words."""
+    characters = LETTERS_BESIDE + OTHER_CHARACTERS + TAKE_LETTERS
+    strings = strings_with_others("abcdefgh", characters) + ["a" * 401, "abcdefgh" * 50 + "a", "a" * 4000]
+    return strings + values_of_other_kinds()
+
+
+def wrong_programs():
+    """Values that are no programs."""
+    strings = strings_with_others("abCDefGH", LETTERS_BESIDE + OTHER_CHARACTERS)
+    strings += ["a" * 401, "A" * 401, ALL_STEPS * 25 + "a", "A" * 4000]
+    return strings + values_of_other_kinds()
+
+
+def few_wrong_words():
+    """One value of each form that is no word, for where the checked value is one of several."""
+    return ["A", "ab ", "a" * 401, None, 0, True, ["a"], ("a",), {"a": "a"}, b"a", Queue("a")]
+
+
+def few_wrong_programs():
+    """One value of each form that is no program, for where the checked value is one of several."""
+    return ["i", "aB ", "a" * 401, None, 0, True, ["a"], ("a",), {"a": "a"}, b"a", Effect("", "a", 0)]
+
+
+def random_string(source, letters, longest):
+    """A string of these letters, of any length up to this one."""
+    return "".join([source.choice(letters) for k in range(source.randint(0, longest))])
 
 
 def strings_of(letters, longest):

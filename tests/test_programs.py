@@ -5,17 +5,9 @@ import unittest
 from leakyqueue.errors import InvalidProgram, LimitExceeded
 from leakyqueue.programs import is_program, join, put_counts, puts, steps, takes
 from samples import (
-    ITEM_LETTERS, LETTERS_BESIDE, OTHER_CHARACTERS, TAKE_LETTERS, CheckedCase,
-    strings_of, strings_with_others, values_of_other_kinds,
+    ALL_STEPS, ITEM_LETTERS, LETTERS_BESIDE, OTHER_CHARACTERS, TAKE_LETTERS, CheckedCase,
+    strings_of, wrong_programs,
 )
-
-ALL_STEPS = "".join(ITEM_LETTERS + TAKE_LETTERS)
-
-
-def wrong_programs():
-    wrong = strings_with_others("abCDefGH", LETTERS_BESIDE + OTHER_CHARACTERS)
-    wrong += ["a" * 401, "A" * 401, ALL_STEPS * 25 + "a", "A" * 4000]
-    return wrong + values_of_other_kinds()
 
 
 def read_steps(program):

@@ -7,19 +7,10 @@ from leakyqueue.errors import InvalidWord
 from leakyqueue.words import ITEMS, embedding, is_subsequence, is_word, prefix_length
 from samples import (
     ITEM_LETTERS, LETTERS_BESIDE, OTHER_CHARACTERS, TAKE_LETTERS, CheckedCase,
-    strings_of, strings_with_others, values_of_other_kinds,
+    strings_of, wrong_words,
 )
 
 FUNCTIONS = [is_subsequence, embedding, prefix_length]
-
-
-def wrong_strings():
-    characters = LETTERS_BESIDE + OTHER_CHARACTERS + TAKE_LETTERS
-    return strings_with_others("abcdefgh", characters) + ["a" * 401, "abcdefgh" * 50 + "a", "a" * 4000]
-
-
-def wrong_words():
-    return wrong_strings() + values_of_other_kinds()
 
 
 def first_choice(part, word):
