@@ -79,9 +79,7 @@ def most_repetitions(program, queue):
     require_short_program(program)
     require_word(queue)
     taken, given, core = program_values(program)
-    if taken == "":
-        return None
-    served = len(repeated_prefix(taken, queue, len(queue) + 1))
+    served = len(repeated_prefix(taken, queue, len(queue)))
     exponent = 0
     while core <= served:
         exponent += 1

@@ -68,8 +68,7 @@ class Queue:
         return Queue(self.content)
 
     def __eq__(self, other):
-        same_class = isinstance(other, Queue) and not isinstance(other, LeakyQueue)
-        return same_class and self.content == other.content
+        return isinstance(other, Queue) and not isinstance(other, LeakyQueue) and self.content == other.content
 
     def __len__(self):
         return len(self.content)

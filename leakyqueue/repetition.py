@@ -47,7 +47,7 @@ def repeated_core(taken, given, core, exponent):
 def repeated_prefix(taken, queue, exponent):
     """Return the earliest positions in the queue of the longest prefix of the repeated takes."""
     # Each take needs an item of its own, so more repetitions do not matter.
-    return earliest_positions(taken * min(exponent, len(queue) + 1), queue)
+    return earliest_positions(taken * min(exponent, len(queue)), queue)
 
 
 def skip_puts(taken, given, place):

@@ -65,7 +65,8 @@ def useful_items(one, served, other, other_served):
     """Return, in order, the items that can be the next one of a first separating word."""
     if one.is_complete(served) or other.is_complete(other_served):
         # The complete effect keeps the next item. The other one serves no take with at least one of two items,
-        # and its result stays the same while that of the complete one becomes longer.
+        # and its result stays the same while that of the complete one becomes longer. If both became complete
+        # together, they agree on all longer words, and no item is of use.
         return ["a", "b"]
     return sorted({one.wanted[served], other.wanted[other_served]})
 
@@ -84,9 +85,7 @@ def separating_end(one, other):
                 if one.result(served, item) != other.result(other_served, item):
                     return word + item
                 after = (one.serve(served, item), other.serve(other_served, item))
-                # Effects that become complete together, with the same puts, agree on all longer words.
-                together = one.is_complete(after[0]) and other.is_complete(after[1])
-                if after not in seen and not together:
+                if after not in seen:
                     seen.add(after)
                     longer.append((*after, word + item))
         layer = longer

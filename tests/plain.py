@@ -58,6 +58,19 @@ def plain_core(program):
     return min([length for length in range(len(taken) + 1) if plain_result(program, taken[:length]) is not None])
 
 
+def core_by_halving(program):
+    """The core of a long program."""
+    taken = "".join([step.lower() for step in program if step in "ABCDEFGH"])
+    low, high = 0, len(taken)
+    while low < high:
+        middle = (low + high) // 2
+        if plain_result(program, taken[:middle]) is None:
+            low = middle + 1
+        else:
+            high = middle
+    return low
+
+
 def plain_values(program):
     """The takes, the puts and the core of a program."""
     taken = "".join([step.lower() for step in program if step in "ABCDEFGH"])

@@ -62,6 +62,11 @@ def few_wrong_programs():
     return ["i", "aB ", "a" * 401, None, 0, True, ["a"], ("a",), {"a": "a"}, b"a", Effect("", "a", 0)]
 
 
+def no_numbers():
+    """Values that are no integers."""
+    return [value for value in values_of_other_kinds() if value.__class__ is not int] + ["", "0", "1", [0], [1], (1,)]
+
+
 def random_string(source, letters, longest):
     """A string of these letters, of any length up to this one."""
     return "".join([source.choice(letters) for k in range(source.randint(0, longest))])

@@ -6,15 +6,14 @@ import unittest
 from leakyqueue.algebra import commute, roots, unchanged_queues
 from leakyqueue.effects import Effect
 from leakyqueue.errors import InvalidNumber, InvalidProgram
-from plain import merges, plain_core, plain_result, plain_values
+from plain import core_by_halving, merges, plain_core, plain_result, plain_values
 from samples import (
-    ALL_STEPS, CheckedCase, few_wrong_programs, random_string, strings_of, values_of_other_kinds, wrong_programs,
+    ALL_STEPS, CheckedCase, few_wrong_programs, no_numbers, random_string, strings_of, wrong_programs,
 )
 
 
-def no_numbers():
-    """Values that are no integers."""
-    return [value for value in values_of_other_kinds() if value.__class__ is not int] + ["", "0", "1", [1], (1,)]
+def takes_and_puts(program):
+    return [step for step in program if step.isupper()], [step for step in program if step.islower()]
 
 
 def words_of_length(letters, length):
@@ -101,8 +100,9 @@ class Commute(CheckedCase):
         for letters in ["aA", "aaA", "aAA", "abAB", ALL_STEPS]:
             program = "".join([source.choice(letters) for k in range(200)])
             for first, second in [(program * 2, program), (program, program[:100] * 2), (program * 2, program[::-1] * 2)]:
-                expected = values_by_halving(first + second) == values_by_halving(second + first)
-                self.assertIs(commute(first, second), expected)
+                joined = [first + second, second + first]
+                values = [(takes_and_puts(program), core_by_halving(program)) for program in joined]
+                self.assertIs(commute(first, second), values[0] == values[1])
 
     def test_the_empty_program_and_itself(self):
         for program in ["", "a", "A", "abBA", "ab" * 200]:
@@ -121,19 +121,6 @@ class Commute(CheckedCase):
                 self.assert_error(InvalidProgram, "value", value, commute, "a", value)
         for value in few_wrong_programs():
             self.assert_error(InvalidProgram, "value", value, commute, value, ["i"])
-
-
-def values_by_halving(program):
-    """The values of a long program, whose core is found by halving."""
-    taken = "".join([step.lower() for step in program if step in "ABCDEFGH"])
-    low, high = 0, len(taken)
-    while low < high:
-        middle = (low + high) // 2
-        if plain_result(program, taken[:middle]) is None:
-            low = middle + 1
-        else:
-            high = middle
-    return taken, "".join([step for step in program if step in "abcdefgh"]), low
 
 
 class Roots(AlgebraCase):

@@ -294,6 +294,8 @@ class Then(EffectCase):
         self.assert_limit(Effect.of("A" * 400).then, Effect.of("A" * 400))
         self.assertEqual(Effect.identity().then(*[Effect.of("aA")] * 200).core, 0)
         self.assert_limit(Effect.identity().then, *[Effect.of("a")] * 401)
+        self.assert_limit(Effect.of("b" * 100).then, Effect.of("A" * 250), Effect.of("A" * 250))
+        self.assert_limit(Effect.of("B" * 100).then, Effect.of("a" * 250), Effect.of("a" * 250))
 
     def test_values_that_are_no_effects(self):
         effect = Effect.of("aB")

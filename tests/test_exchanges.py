@@ -300,7 +300,7 @@ class Distances(CheckedCase):
 
 class CheckPath(CheckedCase):
     def test_all_short_lists(self):
-        for first in ["aBa", "cAb", "aAb", "abB", "bABa", "aBbA", "ABab"]:
+        for first in ["aBa", "cAb", "aAb", "abB", "bABa", "aBbA", "ABab", "AaAabB"]:
             programs = sorted(plain_distances(first)) + ["aB", first.swapcase()]
             for length in range(4):
                 for path in itertools.product(range(-1, len(first) + 1), repeat=length):
@@ -322,6 +322,12 @@ class CheckPath(CheckedCase):
         self.assertIs(check_path("aAb", "aAb", [1, 1]), True)
         self.assertIs(check_path("aAb", "aAb", [0, 0]), False)
         self.assertIs(check_path("aAb", "aAb", [1, 0, 0, 1]), False)
+        # After the exchange of one take that comes too early for a smaller core, the other one must stay too early.
+        self.assertIs(check_path("AaAabB", "aAAabB", [0]), True)
+        self.assertIs(check_path("AaAabB", "aAAabB", [0, 2, 2]), False)
+        self.assertIs(check_path("AaAabB", "AaaAbB", [2]), True)
+        self.assertIs(check_path("AaAabB", "AaaAbB", [2, 0, 0]), False)
+        self.assertIs(check_path("AaAabB", "AaaAbB", [0, 0, 2]), True)
 
     def test_random_walks(self):
         """Longer walks, so that each exchange is checked in the program as it is then."""

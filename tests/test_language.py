@@ -174,6 +174,12 @@ class Names(unittest.TestCase):
                 if function.name.startswith("__"):
                     self.assertIn(function.name, ALLOWED_SPECIAL_METHODS)
 
+    def test_special_methods_assign_nothing(self):
+        for name, text in sources():
+            for method in methods(text):
+                if method.name in ["__eq__", "__repr__", "__len__"]:
+                    self.assertEqual(assigned_names(ast.unparse(method)) + stored_attributes(ast.unparse(method)), [])
+
     def test_called_methods(self):
         own = [method.name for name, text in sources() for method in methods(text)]
         for name, text in sources():

@@ -6,10 +6,9 @@ import unittest
 from leakyqueue.effects import Effect
 from leakyqueue.errors import InvalidNumber, InvalidProgram, InvalidWord, LimitExceeded
 from leakyqueue.powers import most_repetitions, power_core, power_effect, power_item, power_length
-from plain import plain_core, plain_result, plain_values
+from plain import core_by_halving, plain_core, plain_result, plain_values
 from samples import (
-    CheckedCase, few_wrong_programs, few_wrong_words, random_string, strings_of, values_of_other_kinds, wrong_programs,
-    wrong_words,
+    CheckedCase, few_wrong_programs, few_wrong_words, no_numbers, random_string, strings_of, wrong_programs, wrong_words,
 )
 
 GREATEST = 10 ** 30
@@ -22,11 +21,6 @@ CALLS = [
     (power_length, ["ab", 2], 1),
     (power_item, ["ab", 2, 0], 1),
 ]
-
-
-def no_numbers():
-    """Values that are no integers."""
-    return [value for value in values_of_other_kinds() if value.__class__ is not int] + ["", "0", "1", [0], (1,)]
 
 
 def short_cases():
@@ -137,7 +131,7 @@ class GreatExponents(PowerCase):
         for program in programs_of_few_items(40):
             for exponent in self.exponents():
                 late = late_repetitions(exponent)
-                first, second = [plain_core_at(program, late), plain_core_at(program, late + 12)]
+                first, second = [core_by_halving(program * late), core_by_halving(program * (late + 12))]
                 expected = first + (exponent - late) // 12 * (second - first)
                 with self.subTest(program=program, exponent=exponent):
                     self.assert_same(expected, power_core(program, exponent))
@@ -222,20 +216,6 @@ class GreatExponents(PowerCase):
             self.assert_same(0, power_core("", exponent))
             for queue in ["", "abc"]:
                 self.assert_result("", queue, exponent, queue)
-
-
-def plain_core_at(program, exponent):
-    """The core of the repeated program: all of its takes can be served, from the core on, by halving."""
-    repeated = program * exponent
-    taken = "".join([step.lower() for step in repeated if step in "ABCDEFGH"])
-    low, high = 0, len(taken)
-    while low < high:
-        middle = (low + high) // 2
-        if plain_result(repeated, taken[:middle]) is None:
-            low = middle + 1
-        else:
-            high = middle
-    return low
 
 
 class MostRepetitions(PowerCase):
