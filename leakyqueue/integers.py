@@ -17,3 +17,9 @@ def require_number(value, low, high):
     """Raise InvalidNumber if the value is not an integer from low to high."""
     if not is_integer_within(value, low, high):
         raise InvalidNumber(value)
+
+
+def require_number_from(value, low):
+    """Raise InvalidNumber if the value is not an integer from low on."""
+    if not is_integer(value) or value < low:
+        raise InvalidNumber(value)

@@ -2,8 +2,8 @@
 
 from leakyqueue.cores import program_values
 from leakyqueue.effects import Effect
-from leakyqueue.errors import InvalidNumber, LimitExceeded
-from leakyqueue.integers import is_integer, require_number
+from leakyqueue.errors import LimitExceeded
+from leakyqueue.integers import require_number, require_number_from
 from leakyqueue.programs import put_items, require_program
 from leakyqueue.repetition import core_growth, repeated_core, repeated_prefix, repeated_result
 from leakyqueue.words import require_word
@@ -63,8 +63,7 @@ def power_length(program, queue, exponent):
 def power_item(program, queue, exponent, position):
     """Return the item at this position of the best result of the repeated program, or None."""
     length = power_length(program, queue, exponent)
-    if not is_integer(position) or position < 0:
-        raise InvalidNumber(position)
+    require_number_from(position, 0)
     if length is None or position >= length:
         return None
     rest, gone = power_result(program, queue, exponent)

@@ -6,10 +6,10 @@ ITEMS = "abcdefgh"
 MAX_LENGTH = 400
 
 
-def is_string_of(value, letters):
-    """Return whether the value is a string of at most MAX_LENGTH of these letters."""
+def is_string_of(value, letters, longest=MAX_LENGTH):
+    """Return whether the value is a string of these letters, with at most this length."""
     # Stripping stops at the first other character from either end, so nothing remains only if there is none.
-    return isinstance(value, str) and len(value) <= MAX_LENGTH and value.strip(letters) == ""
+    return isinstance(value, str) and len(value) <= longest and value.strip(letters) == ""
 
 
 def is_word(value):

@@ -84,3 +84,9 @@ def merges(taken, given):
     for places in itertools.combinations(range(size), len(taken)):
         takes, puts = iter(taken.upper()), iter(given)
         yield "".join([next(takes) if place in places else next(puts) for place in range(size)])
+
+
+def counts_of(program):
+    """The number of puts before each take."""
+    puts = [step.islower() for step in program]
+    return [sum(puts[:index]) for index in range(len(program)) if not puts[index]]

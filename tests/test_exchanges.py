@@ -6,7 +6,7 @@ import unittest
 
 from leakyqueue.errors import InvalidExchange, InvalidProgram
 from leakyqueue.exchanges import check_path, distance, exchange_path, exchanged, exchanges, normal_program
-from plain import merges, plain_values
+from plain import counts_of, merges, plain_values
 from samples import (
     ALL_STEPS, CheckedCase, few_wrong_programs, random_string, strings_of, values_of_other_kinds, wrong_programs,
 )
@@ -64,12 +64,6 @@ def plain_check(first, second, path):
             return False
         program = swapped(program, index)
     return program == second
-
-
-def counts_of(program):
-    """The number of puts before each take."""
-    puts = [step.islower() for step in program]
-    return [sum(puts[:index]) for index in range(len(program)) if not puts[index]]
 
 
 def short_programs():

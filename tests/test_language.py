@@ -27,11 +27,11 @@ ALLOWED_BUILTINS = [
 ALLOWED_SPECIAL_METHODS = ["__init__", "__eq__", "__repr__", "__len__"]
 # L7: a generator expression may stand in these where a class has its own equality.
 ALLOWED_AROUND_GENERATORS = ["list", "tuple", "dict", "join"]
-# L25: the first list, and what L24 allows for stored sets.
+# L25: the first list, one additional method, and what L24 allows for stored sets.
 ALLOWED_METHODS = (
     "append clear copy count endswith extend find get index insert isalnum isalpha isdigit islower isspace isupper items"
     " join keys ljust lower lstrip partition pop remove replace reverse rfind rjust rpartition rsplit rstrip setdefault"
-    " split splitlines startswith strip update upper values zfill bit_length add discard"
+    " split splitlines startswith strip update upper values zfill bit_length removeprefix add discard"
 ).split()
 
 
