@@ -79,6 +79,11 @@ def strings_of(letters, longest):
             yield "".join(chosen)
 
 
+def order_of_word(word):
+    """What orders words: first the length, then the alphabet."""
+    return (len(word), word)
+
+
 class CheckedCase(unittest.TestCase):
     """Assertions about errors that keep their arguments."""
 
