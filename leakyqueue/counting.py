@@ -2,7 +2,7 @@
 
 from leakyqueue.cores import count_unserved
 from leakyqueue.effects import Effect
-from leakyqueue.errors import InvalidEffect, LimitExceeded
+from leakyqueue.errors import InvalidEffect
 from leakyqueue.exchanges import arranged, early_counts, least_counts
 from leakyqueue.integers import require_number_from
 from leakyqueue.programs import put_counts
@@ -87,9 +87,8 @@ def effects_of(takes, puts):
     """Return all effects with these takes and puts, with ascending cores."""
     require_word(takes)
     require_word(puts)
-    if len(takes) + len(puts) > Effect.MAX_ITEMS:
-        raise LimitExceeded(Effect.MAX_ITEMS)
-    # If the puts can serve all takes after a core, they can do so after each greater one.
+    # If the puts can serve all takes after a core, they can do so after each greater one. The core of all takes always
+    # fits, so there is an effect to raise LimitExceeded if there are too many items.
     return [Effect(takes, puts, core) for core in range(count_unserved(takes, puts), len(takes) + 1)]
 
 

@@ -5,6 +5,7 @@ import itertools
 import unittest
 
 from leakyqueue.effects import Effect
+from leakyqueue.errors import LimitExceeded
 from leakyqueue.queues import LeakyQueue, Queue
 
 ITEM_LETTERS = ["a", "b", "c", "d", "e", "f", "g", "h"]
@@ -95,6 +96,14 @@ class CheckedCase(unittest.TestCase):
         self.assertEqual(caught.exception.__class__, error)
         self.assertIs(getattr(caught.exception, field), expected)
         self.assertEqual((arguments, named), before)
+
+    def assert_limit(self, limit, call, *arguments):
+        """The call raises LimitExceeded with this limit, and no argument changes."""
+        before = copy.deepcopy(arguments)
+        with self.assertRaises(LimitExceeded) as caught:
+            call(*arguments)
+        self.assert_same(limit, caught.exception.limit)
+        self.assertEqual(arguments, before)
 
     def assert_same(self, expected, value):
         """The value is equal and of the same kind: True is not 1."""

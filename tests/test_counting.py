@@ -7,7 +7,7 @@ import unittest
 
 from leakyqueue.counting import effects_of, position_of, program_at, program_count, programs
 from leakyqueue.effects import Effect
-from leakyqueue.errors import InvalidEffect, InvalidNumber, InvalidProgram, InvalidWord, LimitExceeded
+from leakyqueue.errors import InvalidEffect, InvalidNumber, InvalidProgram, InvalidWord
 from leakyqueue.exchanges import normal_program
 from leakyqueue.queues import Queue
 from plain import core_by_halving, counts_of, merges, plain_core
@@ -193,9 +193,7 @@ class EffectsOf(CountingCase):
 
     def test_401_items(self):
         for taken, given in [("a" * 400, "a"), ("a", "a" * 400), ("a" * 201, "b" * 200), ("a" * 400, "b" * 400)]:
-            with self.assertRaises(LimitExceeded) as caught:
-                effects_of(taken, given)
-            self.assert_same(400, caught.exception.limit)
+            self.assert_limit(400, effects_of, taken, given)
 
     def test_wrong_words(self):
         for value in wrong_words():

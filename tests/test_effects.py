@@ -5,7 +5,7 @@ import random
 import unittest
 
 from leakyqueue.effects import Effect
-from leakyqueue.errors import InvalidCore, InvalidEffect, InvalidProgram, InvalidWord, LimitExceeded
+from leakyqueue.errors import InvalidCore, InvalidEffect, InvalidProgram, InvalidWord
 from leakyqueue.queues import LeakyQueue
 from plain import merges, plain_core, plain_result, plain_values
 from samples import (
@@ -54,11 +54,6 @@ class EffectCase(CheckedCase):
         self.assert_same(takes[:core], effect.least_queue)
         self.assertEqual(repr(effect), "Effect('" + takes + "', '" + puts + "', " + str(core) + ")")
         self.assertIs(effect == Effect(takes, puts, core), True)
-
-    def assert_limit(self, call, *arguments):
-        with self.assertRaises(LimitExceeded) as caught:
-            call(*arguments)
-        self.assert_same(400, caught.exception.limit)
 
 
 class Examples(unittest.TestCase):
@@ -128,10 +123,10 @@ class Constructor(EffectCase):
         self.assert_values(Effect("a" * 200, "a" * 200, 0), "a" * 200, "a" * 200, 0)
         self.assert_values(Effect("a" * 400, "", 400), "a" * 400, "", 400)
         self.assert_values(Effect("", "a" * 400, 0), "", "a" * 400, 0)
-        self.assert_limit(Effect, "a" * 200, "a" * 201, 0)
-        self.assert_limit(Effect, "a" * 201, "a" * 200, 201)
-        self.assert_limit(Effect, "a" * 400, "a", 400)
-        self.assert_limit(Effect, "a" * 400, "a" * 400, 0)
+        self.assert_limit(400, Effect, "a" * 200, "a" * 201, 0)
+        self.assert_limit(400, Effect, "a" * 201, "a" * 200, 201)
+        self.assert_limit(400, Effect, "a" * 400, "a", 400)
+        self.assert_limit(400, Effect, "a" * 400, "a" * 400, 0)
 
     def test_cores_whatever_the_number_of_items(self):
         self.assertIs(Effect.is_core("a" * 400, "a" * 400, 0), True)
@@ -208,7 +203,7 @@ class Apply(EffectCase):
             for queue in queues + [random_string(source, "abcdefgh", 400) for k in range(5)]:
                 expected = plain_result(program, queue)
                 if expected is not None and len(expected) > 400:
-                    self.assert_limit(effect.apply, queue)
+                    self.assert_limit(400, effect.apply, queue)
                 else:
                     self.assertEqual(effect.apply(queue), expected)
 
@@ -219,9 +214,9 @@ class Apply(EffectCase):
 
     def test_400_items_and_one_more(self):
         self.assertEqual(Effect("", "b" * 200, 0).apply("a" * 200), "a" * 200 + "b" * 200)
-        self.assert_limit(Effect("", "b" * 200, 0).apply, "a" * 201)
-        self.assert_limit(Effect("", "b" * 400, 0).apply, "a")
-        self.assert_limit(Effect("a", "bb", 1).apply, "a" * 400)
+        self.assert_limit(400, Effect("", "b" * 200, 0).apply, "a" * 201)
+        self.assert_limit(400, Effect("", "b" * 400, 0).apply, "a")
+        self.assert_limit(400, Effect("a", "bb", 1).apply, "a" * 400)
         self.assertEqual(Effect("a", "b", 1).apply("a" * 400), "a" * 399 + "b")
 
     def test_all_effects_of_short_words(self):
@@ -288,14 +283,14 @@ class Then(EffectCase):
         puts, takes = Effect.of("a" * 200), Effect.of("A" * 200)
         self.assert_values(puts.then(takes), "a" * 200, "a" * 200, 0)
         self.assert_values(takes.then(puts), "a" * 200, "a" * 200, 200)
-        self.assert_limit(puts.then, takes, Effect.of("b"))
-        self.assert_limit(Effect.of("b").then, puts, takes)
-        self.assert_limit(Effect.of("a" * 400).then, Effect.of("A"))
-        self.assert_limit(Effect.of("A" * 400).then, Effect.of("A" * 400))
+        self.assert_limit(400, puts.then, takes, Effect.of("b"))
+        self.assert_limit(400, Effect.of("b").then, puts, takes)
+        self.assert_limit(400, Effect.of("a" * 400).then, Effect.of("A"))
+        self.assert_limit(400, Effect.of("A" * 400).then, Effect.of("A" * 400))
         self.assertEqual(Effect.identity().then(*[Effect.of("aA")] * 200).core, 0)
-        self.assert_limit(Effect.identity().then, *[Effect.of("a")] * 401)
-        self.assert_limit(Effect.of("b" * 100).then, Effect.of("A" * 250), Effect.of("A" * 250))
-        self.assert_limit(Effect.of("B" * 100).then, Effect.of("a" * 250), Effect.of("a" * 250))
+        self.assert_limit(400, Effect.identity().then, *[Effect.of("a")] * 401)
+        self.assert_limit(400, Effect.of("b" * 100).then, Effect.of("A" * 250), Effect.of("A" * 250))
+        self.assert_limit(400, Effect.of("B" * 100).then, Effect.of("a" * 250), Effect.of("a" * 250))
 
     def test_values_that_are_no_effects(self):
         effect = Effect.of("aB")

@@ -4,7 +4,7 @@ import random
 import unittest
 
 from leakyqueue.effects import Effect
-from leakyqueue.errors import InvalidNumber, InvalidProgram, InvalidWord, LimitExceeded
+from leakyqueue.errors import InvalidNumber, InvalidProgram, InvalidWord
 from leakyqueue.powers import most_repetitions, power_core, power_effect, power_item, power_length
 from plain import core_by_halving, plain_core, plain_result, plain_values
 from samples import (
@@ -50,11 +50,6 @@ def late_repetitions(exponent):
 
 
 class PowerCase(CheckedCase):
-    def assert_limit(self, limit, call, *arguments):
-        with self.assertRaises(LimitExceeded) as caught:
-            call(*arguments)
-        self.assert_same(limit, caught.exception.limit)
-
     def assert_result(self, program, queue, exponent, expected):
         """The length and all items are those of the expected result."""
         if expected is None:

@@ -2,7 +2,7 @@
 
 import unittest
 
-from leakyqueue.errors import InvalidProgram, LimitExceeded
+from leakyqueue.errors import InvalidProgram
 from leakyqueue.programs import is_program, join, put_counts, puts, steps, takes
 from samples import (
     ALL_STEPS, ITEM_LETTERS, LETTERS_BESIDE, OTHER_CHARACTERS, TAKE_LETTERS, CheckedCase,
@@ -164,9 +164,7 @@ class Join(CheckedCase):
 
     def test_401_steps_together(self):
         for programs in [["a" * 400, "A"], ["A", "a" * 400], ["a" * 200, "", "B" * 201], ["B"] * 401, ["h" * 400] * 3]:
-            with self.assertRaises(LimitExceeded) as caught:
-                join(*programs)
-            self.assertEqual(caught.exception.limit, 400)
+            self.assert_limit(400, join, *programs)
 
     def test_wrong_programs(self):
         for value in wrong_programs():

@@ -4,7 +4,7 @@ import random
 import unittest
 
 from leakyqueue.effects import Effect
-from leakyqueue.errors import Failed, InvalidPosition, InvalidProgram, InvalidWord, LimitExceeded, Missing
+from leakyqueue.errors import Failed, InvalidPosition, InvalidProgram, InvalidWord, Missing
 from leakyqueue.queues import LeakyQueue, Queue
 from samples import ITEM_LETTERS, CheckedCase, random_string, values_of_other_kinds, wrong_programs, wrong_words
 
@@ -55,11 +55,6 @@ class QueueCase(CheckedCase):
         word = queue.word
         self.assert_error(error, field, expected, getattr(queue, method), *arguments)
         self.assert_word(queue.__class__, queue, word)
-
-    def assert_limit(self, call, *arguments):
-        with self.assertRaises(LimitExceeded) as caught:
-            call(*arguments)
-        self.assert_same(400, caught.exception.limit)
 
     def assert_failed(self, queue, program, index):
         """The run fails at this index, and the queue stays as it was."""
@@ -153,7 +148,7 @@ class Put(QueueCase):
             queue = kind("a" * 399)
             queue.put("b")
             self.assert_word(kind, queue, "a" * 399 + "b")
-            self.assert_limit(queue.put, "c")
+            self.assert_limit(400, queue.put, "c")
             self.assert_word(kind, queue, "a" * 399 + "b")
             queue.take("a")
             queue.put("c")
@@ -377,7 +372,7 @@ class Sequences(QueueCase):
     def put(self, source, queue, word):
         item = source.choice("abcd")
         if len(word) == 400:
-            self.assert_limit(queue.put, item)
+            self.assert_limit(400, queue.put, item)
             return word
         self.assertIsNone(queue.put(item))
         return word + item

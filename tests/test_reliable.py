@@ -3,7 +3,7 @@
 import random
 import unittest
 
-from leakyqueue.errors import Failed, InvalidProgram, InvalidWord, LimitExceeded
+from leakyqueue.errors import Failed, InvalidProgram, InvalidWord
 from leakyqueue.queues import Queue
 from leakyqueue.reliable import first_difference, reliable_result
 from leakyqueue.results import best_result
@@ -40,13 +40,6 @@ def fitting_queue(source, program, longest):
     return taken[:source.randint(0, len(taken))] + random_string(source, "ab", longest)
 
 
-class ReliableCase(CheckedCase):
-    def assert_limit(self, call, *arguments):
-        with self.assertRaises(LimitExceeded) as caught:
-            call(*arguments)
-        self.assert_same(400, caught.exception.limit)
-
-
 class Examples(unittest.TestCase):
     def test_document_example(self):
         self.assertEqual(
@@ -55,7 +48,7 @@ class Examples(unittest.TestCase):
         )
 
 
-class Results(ReliableCase):
+class Results(CheckedCase):
     def test_all_short_programs_and_queues(self):
         for program in strings_of("abAB", 4):
             for queue in strings_of("ab", 4):
@@ -97,7 +90,7 @@ class Results(ReliableCase):
         self.assertEqual(reliable_result("", "a" * 400), "a" * 400)
         self.assertEqual(reliable_result("b", "a" * 399), "a" * 399 + "b")
         for program, queue in [("b", "a" * 400), ("a" * 400, "a"), ("a" * 400, "a" * 400), ("bbA", "a" * 400)]:
-            self.assert_limit(reliable_result, program, queue)
+            self.assert_limit(400, reliable_result, program, queue)
         # A program that fails has no long result.
         self.assertIsNone(reliable_result("a" * 399 + "B", "a" * 400))
 
@@ -121,7 +114,7 @@ class Results(ReliableCase):
                 self.assert_error(InvalidProgram, "value", value, reliable_result, value, word)
 
 
-class Differences(ReliableCase):
+class Differences(CheckedCase):
     def assert_first(self, program, words):
         difference = first_difference(program)
         self.assertEqual(difference, plain_difference(program, words))

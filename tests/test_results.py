@@ -5,7 +5,7 @@ import itertools
 import random
 import unittest
 
-from leakyqueue.errors import Failed, InvalidProgram, InvalidWord, LimitExceeded
+from leakyqueue.errors import Failed, InvalidProgram, InvalidWord
 from leakyqueue.queues import LeakyQueue
 from leakyqueue.results import best_result, check_losses, find_losses, is_possible
 from plain import all_results, greatest, plain_result, subsequences
@@ -96,14 +96,9 @@ class BestResult(CheckedCase):
         for program, queue in long_cases():
             expected = plain_result(program, queue)
             if expected is not None and len(expected) > 400:
-                self.assert_limit(program, queue)
+                self.assert_limit(400, best_result, program, queue)
             else:
                 self.assertEqual(best_result(program, queue), expected)
-
-    def assert_limit(self, program, queue):
-        with self.assertRaises(LimitExceeded) as caught:
-            best_result(program, queue)
-        self.assert_same(400, caught.exception.limit)
 
     def test_longer_words_on_the_way(self):
         self.assert_same("b" * 200, best_result("b" * 200 + "A" * 200, "a" * 200))
@@ -116,12 +111,12 @@ class BestResult(CheckedCase):
         self.assert_same("a" * 400, best_result("", "a" * 400))
         self.assert_same("a" * 400, best_result("a" * 400, ""))
         self.assert_same("a" * 200 + "b" * 200, best_result("b" * 200, "a" * 200))
-        self.assert_limit("b", "a" * 400)
-        self.assert_limit("b" * 201, "a" * 200)
-        self.assert_limit("b" * 400, "a")
-        self.assert_limit("b" * 201 + "A" * 199, "a" * 399)
-        self.assert_limit("Abb", "a" * 400)
-        self.assert_limit("b" * 400, "a" * 400)
+        self.assert_limit(400, best_result, "b", "a" * 400)
+        self.assert_limit(400, best_result, "b" * 201, "a" * 200)
+        self.assert_limit(400, best_result, "b" * 400, "a")
+        self.assert_limit(400, best_result, "b" * 201 + "A" * 199, "a" * 399)
+        self.assert_limit(400, best_result, "Abb", "a" * 400)
+        self.assert_limit(400, best_result, "b" * 400, "a" * 400)
         self.assert_same("a" * 399 + "b", best_result("Ab", "a" * 400))
 
     def test_failing_programs(self):

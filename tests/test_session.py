@@ -237,17 +237,18 @@ class Run(SessionCase):
         session = with_steps("", "aA" * 199)
         self.assertEqual(session.run("aA"), 0)
         self.assertEqual(len(session), 400)
-        self.assert_limit(session, "a")
+        self.assert_full(session, "a")
         self.assertEqual(session.run(""), 0)
         self.assertEqual(session.undo(), "A")
-        self.assert_limit(session, "Aa")
+        self.assert_full(session, "Aa")
         self.assertEqual(session.run("A"), 0)
         self.assertEqual(len(Session("").program), 0)
         session = with_steps("", "a" * 400)
         self.assertEqual(session.effect, Effect("", "a" * 400, 0))
-        self.assert_limit(session, "A")
+        self.assert_full(session, "A")
 
-    def assert_limit(self, session, program):
+    def assert_full(self, session, program):
+        """The run would make more than 400 steps, and nothing changes."""
         before = session.clone()
         self.assertEqual(outcome(session.run, program), ("LimitExceeded", 400))
         self.assertEqual(repr(session), repr(before))
@@ -257,10 +258,10 @@ class Run(SessionCase):
         session = with_steps("", "aA" * 200)
         self.assert_unchanged_error(session, Failed, "index", 0, "run", "A")
         self.assert_unchanged_error(session, Failed, "index", 2, "run", "aAA")
-        self.assert_limit(session, "aA")
+        self.assert_full(session, "aA")
         session = with_steps("", "a" * 400)
         self.assert_unchanged_error(session, Failed, "index", 0, "run", "a")
-        self.assert_limit(session, "Aa")
+        self.assert_full(session, "Aa")
 
     def test_what_can_be_redone(self):
         session = with_steps("", "abc")

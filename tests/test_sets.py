@@ -5,7 +5,7 @@ import itertools
 import random
 import unittest
 
-from leakyqueue.errors import InvalidProgram, InvalidSet, InvalidWord, LimitExceeded
+from leakyqueue.errors import InvalidProgram, InvalidSet, InvalidWord
 from leakyqueue.sets import contains, image, includes, is_invariant, missing_word, normal_set
 from plain import plain_result, subsequences
 from plain_sets import (
@@ -54,13 +54,6 @@ class SetCase(CheckedCase):
             self.assertTrue(plain_contains(second, word))
             self.assertFalse(plain_contains(first, word))
         self.assertEqual((first, second), before)
-
-    def assert_limit(self, limit, call, *arguments):
-        before = copy.deepcopy(arguments)
-        with self.assertRaises(LimitExceeded) as caught:
-            call(*arguments)
-        self.assert_same(limit, caught.exception.limit)
-        self.assertEqual(arguments, before)
 
 
 class Examples(unittest.TestCase):
